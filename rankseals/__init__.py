@@ -1,0 +1,1 @@
+"""Rankseals: papers that need hands, by rank and sum."""
