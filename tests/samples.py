@@ -23,11 +23,12 @@ def letters(at):
 
 
 def put(thing, path, value):
-    """A copy of nested tuples with another value at a path of places."""
+    """A copy of nested tuples and lists with another value at a path of places."""
     if not path:
         return value
     at = path[0]
-    return thing[:at] + (put(thing[at], path[1:], value),) + thing[at + 1:]
+    inner = put(thing[at], path[1:], value)
+    return thing[:at] + ([inner] if isinstance(thing, list) else (inner,)) + thing[at + 1:]
 
 
 def look(thing, path):
@@ -38,9 +39,9 @@ def look(thing, path):
 
 
 def paths(thing, path=()):
-    """The paths to all that stands in nested tuples, the whole one first."""
+    """The paths to all that stands in nested tuples and lists, the whole one first."""
     found = [path]
-    if isinstance(thing, tuple):
+    if isinstance(thing, (tuple, list)):
         for at, inner in enumerate(thing):
             found += paths(inner, path + (at,))
     return found
@@ -50,3 +51,145 @@ def chain_house(many):
     """A house of one part with a chain of leaves from aa on, the last number given first."""
     leaves = tuple((at, letters(many - 1 - at), letters(many - at), "p", 5, 9, 100) for at in range(many))
     return ((("p", ""),), (), leaves, ())
+
+
+def house_of(*leaves, parts=PARTS):
+    """A house with leaves (number, giver, taker) of part p, days 5 to 9, most 100."""
+    full = tuple(sorted(leave + ("p", 5, 9, 100)[len(leave) - 3:] for leave in leaves))
+    return (parts, (), full, ())
+
+
+def every_row(house, paper, holder, signer, day):
+    """All rows without a leave twice, by the plain words of [7]."""
+    over = over_of(house, paper[0])
+    letting = [leave for leave in house[2]
+               if leave[3] in over and leave[4] <= day <= leave[5] and paper[1] <= leave[6]]
+    if holder in paper[2:] or signer in paper[2:]:
+        return []
+    if holder == signer:
+        return [[]]
+    rows, open_rows = [], [([], holder)]
+    while open_rows:
+        row, at = open_rows.pop()
+        if row and at == signer:
+            rows.append(row)
+        for leave in letting:
+            if leave[1] == at and leave[2] not in paper[2:] and leave[0] not in row:
+                open_rows.append((row + [leave[0]], leave[2]))
+    return rows
+
+
+def over_of(house, part):
+    """A part and all within which it lies, by the plain words of [5]."""
+    outer, over = dict(house[0]), []
+    while part in outer:
+        over, part = over + [part], outer[part]
+    return over
+
+
+def fits(house, paper, seat, hand):
+    """Whether the hand may fill the seat, by the plain words of [9]."""
+    holder, signer, day = hand
+    held = [row[2] for row in house[1]
+            if row[1] == holder and row[3] in over_of(house, seat[1]) and row[4] <= day <= row[5]]
+    return max(held + [0]) >= seat[0] and bool(every_row(house, paper, holder, signer, day))
+
+
+def small_changes(thing):
+    """All that comes of a told thing by one small change somewhere in it."""
+    found = []
+    for path in paths(thing):
+        inner = look(thing, path)
+        changed = [odd for odd in ODD_THINGS if odd != inner or isinstance(odd, bool)]
+        if isinstance(inner, (tuple, list)):
+            kind, other = (list, tuple) if isinstance(inner, list) else (tuple, list)
+            changed += [other(inner), [inner], (inner,)] + [inner[:at] + inner[at + 1:] for at in range(len(inner))]
+            changed += [inner[:at + 1] + inner[at:] for at in range(len(inner))]
+            changed += [inner[:at] + inner[at:at + 2][::-1] + inner[at + 2:] for at in range(len(inner) - 1)]
+            changed += [inner + kind([more]) for more in (0, 1, 5, 99, True, None, "anna", (0, 0), [0])]
+        elif isinstance(inner, int):
+            changed += [inner + 1, inner - 1, inner == 1, str(inner)]
+        elif isinstance(inner, str):
+            changed += [inner + "a", inner[:-1], inner.upper(), [inner]]
+        found += [put(thing, path, value) for value in changed]
+    return found
+
+
+def net_house(many, edges):
+    """A house whose paper NET has so many seats, each in a part of its own; edges (person, seat) tell who may fill."""
+    parts = tuple((letters(at), "") for at in range(8))
+    ranks = tuple((number, "p" + letters(who), 1, letters(seat), 0, 9) for number, (who, seat) in enumerate(edges))
+    seats = tuple((1, letters(seat)) for seat in range(many))
+    return (parts, ranks, (), ((letters(0), 0, seats),))
+
+
+NET = (letters(0), 100, "xena", "yves")
+
+
+def own_hands(people):
+    """Hands of people of a net house, each signing for themselves."""
+    return [("p" + letters(who), "p" + letters(who), 5) for who in people]
+
+
+def odd_case(chance, most_seats, most_hands):
+    """A house, a paper and hands by a seeded chance; hands by themselves and by leaves, some that fill nothing."""
+    people = "abcdex"
+    ranks = tuple((number, chance.choice(people), chance.choice((1, 3, 6, 6)), chance.choice("pppqrs"),
+                   chance.randint(0, 2), chance.randint(2, 4)) for number in range(chance.randint(0, 20)))
+    leaves = []
+    for number in sorted(chance.sample(range(20), chance.randint(0, 12))):
+        giver, taker = chance.sample(people, 2)
+        leaves.append((number, giver, taker, chance.choice("pppqrs"), chance.randint(0, 2), chance.randint(2, 4),
+                       chance.choice((99, 100, 100, 500))))
+    seats = tuple((chance.choice((1, 1, 1, 3, 4, 6)), chance.choice(("", "", "p", "q", "r", "s")))
+                  for _ in range(chance.randint(0, most_seats)))
+    house = (PARTS, ranks, tuple(leaves), (("p", 0, seats),))
+    paper = (chance.choice("pqqs"), 100, "x", chance.choice("xye"))
+    many = max(chance.randint(0, most_hands), chance.randint(0, most_hands))
+    hands = list(zip(chance.sample(people, many), chance.sample(people, many),
+                     [chance.choice((0, 1, 2, 2, 2, 3, 4)) for _ in range(many)]))
+    if chance.random() < 0.3:
+        hands = [(holder, holder, day) for holder, signer, day in hands]
+    return house, paper, hands
+
+
+def seats_by_words(house, paper):
+    """The seats of a paper in a house that has one rule alone, of part p or of the paper's, from 0 on."""
+    part, _, seats = house[3][0]
+    return [(rank, where or paper[0]) for rank, where in seats] if part in over_of(house, paper[0]) else []
+
+
+def fit_pairs(house, paper, hands):
+    """All pairs (seat, hand) where the hand may fill the seat."""
+    seats = seats_by_words(house, paper)
+    return [(seat, hand) for seat in range(len(seats)) for hand in range(len(hands))
+            if fits(house, paper, seats[seat], hands[hand])]
+
+
+def every_filling(many, pairs):
+    """All fillings of so many seats by these pairs."""
+    found = [[]]
+    for seat in range(many):
+        found += [filling + [pair] for filling in found for pair in pairs
+                  if pair[0] == seat and pair[1] not in [hand for _, hand in filling]]
+    return found
+
+
+def sublists(things):
+    """All rising lists of some of these things."""
+    found = [[]]
+    for thing in things:
+        found += [some + [thing] for some in found]
+    return found
+
+
+def every_cover(many, hands, pairs):
+    """All covers of so many seats and hands for these pairs."""
+    return [(seats, covered) for seats in sublists(range(many)) for covered in sublists(range(hands))
+            if all(seat in seats or hand in covered for seat, hand in pairs)]
+
+
+def most_filled(seats, pairs):
+    """How many of these seats can be filled at most, by counting the hands that some of them have together."""
+    return min(len(seats) - len(some) + len({hand for seat, hand in pairs if seat in some})
+               for some in sublists(seats))

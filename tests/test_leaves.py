@@ -4,37 +4,9 @@ import unittest
 from rankseals.houses import empty_house, is_house
 from rankseals.leaves import leaves_in_all, row_of, signers_of
 from rankseals.widest import most_of
-from tests.samples import PARTS, chain_house, letters
+from tests.samples import PARTS, chain_house, every_row, house_of, letters
 
 PAPER = ("q", 100, "xena", "yves")
-
-
-def house_of(*leaves, parts=PARTS):
-    """A house with leaves (number, giver, taker) of part p, days 5 to 9, most 100."""
-    full = tuple(sorted(leave + ("p", 5, 9, 100)[len(leave) - 3:] for leave in leaves))
-    return (parts, (), full, ())
-
-
-def every_row(house, paper, holder, signer, day):
-    """All rows without a leave twice, by the plain words of [7]."""
-    outer, over, part = dict(house[0]), [], paper[0]
-    while part in outer:
-        over, part = over + [part], outer[part]
-    letting = [leave for leave in house[2]
-               if leave[3] in over and leave[4] <= day <= leave[5] and paper[1] <= leave[6]]
-    if holder in paper[2:] or signer in paper[2:]:
-        return []
-    if holder == signer:
-        return [[]]
-    rows, open_rows = [], [([], holder)]
-    while open_rows:
-        row, at = open_rows.pop()
-        if row and at == signer:
-            rows.append(row)
-        for leave in letting:
-            if leave[1] == at and leave[2] not in paper[2:] and leave[0] not in row:
-                open_rows.append((row + [leave[0]], leave[2]))
-    return rows
 
 
 def odd_house(chance):
