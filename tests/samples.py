@@ -1,4 +1,6 @@
-"""Houses and odd things that the tests share."""
+"""Houses and odd things that the tests share, and the plain words of the document as slow defs."""
+
+import re
 
 # p lies within nothing; q and r within p; s within q; z stands by itself.
 PARTS = (("p", ""), ("q", "p"), ("r", "p"), ("s", "q"), ("z", ""))
@@ -154,8 +156,8 @@ def odd_case(chance, most_seats, most_hands):
 
 
 def seats_by_words(house, paper):
-    """The seats of a paper in a house that has one rule alone, of part p or of the paper's, from 0 on."""
-    part, _, seats = house[3][0]
+    """The seats of a paper in a house that has at most one rule, from the sum 0 on."""
+    part, _, seats = (house[3] + (("", 0, ()),))[0]
     return [(rank, where or paper[0]) for rank, where in seats] if part in over_of(house, paper[0]) else []
 
 
@@ -193,3 +195,96 @@ def most_filled(seats, pairs):
     """How many of these seats can be filled at most, by counting the hands that some of them have together."""
     return min(len(seats) - len(some) + len({hand for seat, hand in pairs if seat in some})
                for some in sublists(seats))
+
+
+def is_rising_list(thing, is_one):
+    """Whether thing is a list, each thing in it such a one and above the one ahead of it."""
+    return (isinstance(thing, list) and all(is_one(some) for some in thing)
+            and all(low < high for low, high in zip(thing, thing[1:])))
+
+
+def is_place(many):
+    return lambda thing: type(thing) is int and 0 <= thing < many
+
+
+def is_person(thing):
+    return isinstance(thing, str) and re.fullmatch("[a-z]{1,8}", thing) is not None
+
+
+def is_two(first, second):
+    return lambda thing: isinstance(thing, tuple) and len(thing) == 2 and first(thing[0]) and second(thing[1])
+
+
+def people_of(house):
+    """All who are named in the house."""
+    return sorted({row[1] for row in house[1]} | {name for row in house[2] for name in row[1:3]})
+
+
+def every_new(house, paper, hands, day):
+    """All new ones of people of the house, by the plain words of [11]."""
+    holders, signers = [hand[0] for hand in hands], [hand[1] for hand in hands]
+    return [(holder, signer) for holder in people_of(house) for signer in people_of(house)
+            if holder not in holders and signer not in signers and every_row(house, paper, holder, signer, day)]
+
+
+def says_so(house, paper, hands, day, thing):
+    """Whether thing is such as more_for tells, by the plain words of [11] and [12]."""
+    if not isinstance(thing, tuple) or not thing or thing[0] not in ("more", "none"):
+        return False
+    seats = seats_by_words(house, paper)
+    pairs = fit_pairs(house, paper, hands)
+    if thing[0] == "more":
+        return len(thing) == 4 and more_is_so(house, paper, hands, day, thing[1:], seats, pairs)
+    if len(thing) != 5 or not is_rising_list(thing[1], is_place(len(seats))):
+        return False
+    if not is_rising_list(thing[2], is_place(len(hands))):
+        return False
+    if not is_rising_list(thing[3], is_person) or not is_rising_list(thing[4], is_person):
+        return False
+    left = [at for at in range(len(seats)) if at not in thing[1]]
+    return (sum(map(len, thing[1:])) < len(seats)
+            and not [hand for seat, hand in pairs if seat in left and hand not in thing[2]]
+            and not [(holder, signer) for holder, signer in every_new(house, paper, hands, day)
+                     if holder not in thing[3] and signer not in thing[4]
+                     and any(fits(house, paper, seats[at], (holder, signer, day)) for at in left)])
+
+
+def more_is_so(house, paper, hands, day, told, seats, pairs):
+    news, filling, cover = told
+    if not is_rising_list(news, is_two(is_person, is_person)):
+        return False
+    together = hands + [pair + (day,) for pair in news]
+    if not is_rising_list(filling, is_two(is_place(len(seats)), is_place(len(together)))):
+        return False
+    if not is_two(lambda some: is_rising_list(some, is_place(len(seats))),
+                  lambda some: is_rising_list(some, is_place(len(hands))))(cover):
+        return False
+    return (all(pair in every_new(house, paper, hands, day) for pair in news)
+            and all(len({hand[at] for hand in together}) == len(together) for at in (0, 1))
+            and [seat for seat, _ in filling] == list(range(len(seats)))
+            and len({hand for _, hand in filling}) == len(filling)
+            and all(fits(house, paper, seats[seat], together[hand]) for seat, hand in filling)
+            and all(seat in cover[0] or hand in cover[1] for seat, hand in pairs)
+            and len(cover[0]) + len(cover[1]) == len(seats) - len(news))
+
+
+def fewest_news(house, paper, hands, day):
+    """How many new ones fill all seats with the hands, by trying all; None where none do."""
+    seats = seats_by_words(house, paper)
+    pairs = fit_pairs(house, paper, hands)
+    news = every_new(house, paper, hands, day)
+
+    def fewest(seat, used):
+        if seat == len(seats):
+            return 0
+        ways = [(0, [("hand", hand)]) for at, hand in pairs if at == seat]
+        ways += [(1, [("holder", pair[0]), ("signer", pair[1])]) for pair in news
+                 if fits(house, paper, seats[seat], pair + (day,))]
+        found = []
+        for many, nodes in ways:
+            if not used.intersection(nodes):
+                rest = fewest(seat + 1, used.union(nodes))
+                found += [many + rest] if rest is not None else []
+        return min(found, default=None)
+
+    return fewest(0, frozenset())
