@@ -99,6 +99,28 @@ class Form(unittest.TestCase):
             for drawn in node.names:
                 self.assertIn(drawn.name, defs[place], name)
 
+    def test_no_two_files_draw_from_one_another(self):
+        drawn = {path.stem: [row.module.split(".")[1] for row in tree.body if isinstance(row, ast.ImportFrom)]
+                 for path, tree in trees()}
+        while drawn:
+            free = [name for name in drawn if not any(place in drawn for place in drawn[name])]
+            self.assertTrue(free, drawn)
+            drawn = {name: places for name, places in drawn.items() if name not in free}
+
+    def test_each_name_once_and_no_local_like_an_import_or_a_class(self):
+        for path, tree in trees():
+            drawn = [some.name for row in tree.body if isinstance(row, ast.ImportFrom) for some in row.names]
+            classes = [row.name for row in tree.body if isinstance(row, ast.ClassDef)]
+            bound = drawn + classes + [row.name for row in tree.body if isinstance(row, ast.FunctionDef)]
+            bound += [row.targets[0].id for row in tree.body if isinstance(row, ast.Assign)]
+            self.assertEqual(len(set(bound)), len(bound), path.name)
+            for row in tree.body:
+                if isinstance(row, (ast.FunctionDef, ast.ClassDef)):
+                    given = [node.arg for node in ast.walk(row) if isinstance(node, ast.arg)]
+                    given += [node.id for node in ast.walk(row)
+                              if isinstance(node, ast.Name) and isinstance(node.ctx, ast.Store)]
+                    self.assertFalse(set(given) & set(drawn + classes), (path.name, row.name))
+
     def test_names(self):
         own = {node.name for _, node in nodes(ast.FunctionDef)} | {
             node.attr for _, node in nodes(ast.Attribute) if isinstance(node.ctx, ast.Store)}

@@ -385,8 +385,8 @@ class ByChance(Case):
     def test_lists_by_chance(self):
         chance = random.Random(19)
         shown = 0
-        for _ in range(4000):
-            if _ % 40 == 0:
+        for at in range(4000):
+            if at % 40 == 0:
                 house, paper, hands = odd_case(chance, 4, 4)
             thing = ("none",) + tuple(sorted(chance.sample(some, min(len(some), chance.randint(0, 2))))
                                       for some in (range(4), range(4), "abcdex", "abcdex"))
