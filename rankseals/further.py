@@ -29,6 +29,11 @@ def more_for(house, paper, hands, day):
     return "more", news, filling_of(after, starts, len(hands), news), cover
 
 
+def how_many(told):
+    """How many new hands are told to be needed; None where none do."""
+    return len(told[1]) if told[0] == "more" else None
+
+
 def links_to_holders(house, hands, seats, day):
     """For each seat's node the list of the nodes of the new holders who have its rank."""
     return {

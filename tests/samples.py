@@ -156,9 +156,13 @@ def odd_case(chance, most_seats, most_hands):
 
 
 def seats_by_words(house, paper):
-    """The seats of a paper in a house that has at most one rule, from the sum 0 on."""
-    part, _, seats = (house[3] + (("", 0, ()),))[0]
-    return [(rank, where or paper[0]) for rank, where in seats] if part in over_of(house, paper[0]) else []
+    """The seats of a paper, by the plain words of [6]."""
+    for part in over_of(house, paper[0]):
+        bounds = {bound: seats for where, bound, seats in house[3] if where == part}
+        if bounds:
+            below = [bound for bound in bounds if bound <= paper[1]]
+            return [(rank, where or paper[0]) for rank, where in (bounds[max(below)] if below else ())]
+    return []
 
 
 def fit_pairs(house, paper, hands):

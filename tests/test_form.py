@@ -121,6 +121,33 @@ class Form(unittest.TestCase):
                               if isinstance(node, ast.Name) and isinstance(node.ctx, ast.Store)]
                     self.assertFalse(set(given) & set(drawn + classes), (path.name, row.name))
 
+    def test_the_top_of_a_file(self):
+        for path, tree in trees():
+            for row in tree.body:
+                plain = isinstance(row, (ast.ImportFrom, ast.FunctionDef, ast.ClassDef, ast.Assign)) or (
+                    isinstance(row, ast.Expr) and isinstance(row.value, ast.Constant))
+                self.assertTrue(plain, (path.name, row.lineno))
+                if isinstance(row, ast.Assign) and isinstance(row.value, (ast.List, ast.Dict)):
+                    inner = [node for node in ast.walk(row.value) if isinstance(node, (ast.List, ast.Dict))]
+                    self.assertEqual(len(inner), 1, (path.name, row.lineno))
+
+    def test_no_name_is_a_method_and_a_value(self):
+        methods = {row.name for _, node in nodes(ast.ClassDef) for row in node.body if isinstance(row, ast.FunctionDef)}
+        values = {node.attr for _, node in nodes(ast.Attribute) if isinstance(node.ctx, ast.Store)}
+        self.assertEqual(methods & values, set())
+
+    def test_sets_and_walks_are_not_kept(self):
+        for path, tree in trees():
+            around = {id(inner): node for node in ast.walk(tree) for inner in ast.iter_child_nodes(node)}
+            for node in ast.walk(tree):
+                called = node.func.id if isinstance(node, ast.Call) and isinstance(node.func, ast.Name) else ""
+                if isinstance(node, (ast.Set, ast.SetComp)) or called in ("set", "frozenset"):
+                    self.assertIn(ast.unparse(getattr(around[id(node)], "func", ast.Name("none"))), ("sorted", "len"),
+                                  (path.name, node.lineno))
+                method = node.func.attr if isinstance(node, ast.Call) and isinstance(node.func, ast.Attribute) else ""
+                if called in ("zip", "enumerate", "reversed", "range") or method in ("items", "keys", "values"):
+                    self.assertIsInstance(around[id(node)], (ast.For, ast.comprehension), (path.name, node.lineno))
+
     def test_names(self):
         own = {node.name for _, node in nodes(ast.FunctionDef)} | {
             node.attr for _, node in nodes(ast.Attribute) if isinstance(node.ctx, ast.Store)}
