@@ -4,7 +4,8 @@ from rankseals.errors import BadDay, NoDeed, NoHand, NoLeave, NoPaper, NoPart, N
 from rankseals.filling import filled, stands
 from rankseals.further import how_many, more_for
 from rankseals.papers import (
-    has_either, is_drawn_back, is_hand, last_day, lying_on, plain_hands, replaced, with_drawing_back, with_hand,
+    days_told, has_either, is_drawn_back, is_hand, last_day, lying_on, plain_hands, replaced, with_drawing_back,
+    with_hand,
 )
 
 
@@ -185,6 +186,17 @@ class Book:
         """Whether the leave of that number is taken back."""
         self.need_leave(n)
         return n in self.now("back")
+
+    def days_of(self, name):
+        """The rising list of the days told of the paper: its own, those of hands and of drawings back."""
+        return days_told(self.kept_paper(name))
+
+    def hand_of(self, name, n):
+        """The hand (holder, signer, day) of that number, drawn back or not."""
+        kept = self.kept_paper(name)
+        if not is_hand(kept, n):
+            raise NoHand(f"there is no hand {n} on {name}")
+        return kept[2][n][:3]
 
     def has_part(self, part):
         return part in [name for name, within in self.now("parts")]

@@ -240,11 +240,13 @@ PAPERS = ("ink", "pen", "wax")
 
 
 def odd_begin(chance):
-    """Deeds by a seeded chance with which a book begins: parts, ranks, leaves, a rule and papers."""
-    rows = [("add_part", part, within) for part, within in PARTS]
-    rows += [odd_rank(chance, "p") for _ in range(6)] + [odd_leave(chance, "p") for _ in range(7)]
-    rows.append(("set_rule", "p", 0, tuple((chance.choice((1, 1, 3)), "") for _ in range(chance.choice((1, 2, 3))))))
-    return rows + [odd_paper(chance, name) for name in PAPERS]
+    """Deeds by a seeded chance with which a book begins: parts, ranks, leaves, a rule, papers, and hands by leaves."""
+    leaves = [odd_leave(chance, "p") for _ in range(7)]
+    rows = [("add_part", part, within) for part, within in PARTS] + leaves
+    rows += [odd_rank(chance, "p") for _ in range(5)] + [("give_rank", leaves[0][1], 3, "p", 0, 12)]
+    rows.append(("set_rule", "p", 0, tuple((chance.choice((1, 1, 3)), "") for _ in range(chance.choice((1, 1, 2, 3))))))
+    rows += [odd_paper(chance, name) for name in PAPERS]
+    return rows + [("sign", name, *chance.choice(leaves[:2])[1:3], 4) for name in PAPERS]
 
 
 def odd_deeds(chance, many, first=2, last=12):
@@ -253,14 +255,20 @@ def odd_deeds(chance, many, first=2, last=12):
 
 
 def odd_rank(chance, part):
-    first = chance.randint(0, 4)
+    first = chance.randint(0, 3)
     return "give_rank", chance.choice(PEOPLE), chance.choice((1, 3, 6)), part, first, first + chance.randint(2, 12)
 
 
+def odd_pair(chance):
+    """Two people, often those who stand side by side, so that signs and leaves often fit."""
+    at = chance.randrange(len(PEOPLE) - 1)
+    return tuple(PEOPLE[at:at + 2]) if chance.random() < 0.7 else tuple(chance.sample(PEOPLE, 2))
+
+
 def odd_leave(chance, part):
-    first = chance.randint(0, 4)
-    giver, taker = chance.sample(PEOPLE, 2)
-    return "give_leave", giver, taker, part, first, first + chance.randint(2, 9), chance.choice((5, 60, 900))
+    giver, taker = odd_pair(chance)
+    first = chance.randint(0, 3)
+    return "give_leave", giver, taker, part, first, first + chance.randint(2, 12), chance.choice((30, 60, 900))
 
 
 def odd_paper(chance, name):
@@ -292,12 +300,12 @@ def odd_deed(chance, clock):
     if word == "drop_rule":
         return word, part, chance.choice((0, 50))
     if word == "put_paper":
-        return odd_paper(chance, chance.choice(PAPERS))
+        return odd_paper(chance, chance.choice(PAPERS + ("cap",)))
     if word == "sign":
-        holder = chance.choice(PEOPLE)
-        return word, chance.choice(PAPERS), holder, chance.choice((holder, *chance.sample(PEOPLE, 2))), day
+        holder, signer = odd_pair(chance)
+        return word, chance.choice(PAPERS * 3 + ("cap",)), holder, chance.choice((holder, signer, signer)), day
     if word == "draw_back":
-        return word, chance.choice(PAPERS), n, day
+        return word, chance.choice(PAPERS * 3 + ("cap",)), n, day
     return ("undo",)
 
 

@@ -146,7 +146,10 @@ class Form(unittest.TestCase):
                                   (path.name, node.lineno))
                 method = node.func.attr if isinstance(node, ast.Call) and isinstance(node.func, ast.Attribute) else ""
                 if called in ("zip", "enumerate", "reversed", "range") or method in ("items", "keys", "values"):
-                    self.assertIsInstance(around[id(node)], (ast.For, ast.comprehension), (path.name, node.lineno))
+                    walker = ast.unparse(getattr(around[id(node)], "func", ast.Name("none")))
+                    walked = walker in ("list", "tuple", "dict", "sorted", "sum", "any", "all", "min", "max")
+                    self.assertTrue(walked or isinstance(around[id(node)], (ast.For, ast.comprehension)),
+                                    (path.name, node.lineno))
 
     def test_names(self):
         own = {node.name for _, node in nodes(ast.FunctionDef)} | {
